@@ -7,7 +7,7 @@ import (
 
 // spare gives a copy of a list that has room behind its end, all of it filled with a value that no test uses. whole is
 // the copy together with that room: a call that writes behind an argument's end changes it.
-func spare[T int32 | byte](list []T, filler T) (part, whole []T) {
+func spare[T any](list []T, filler T) (part, whole []T) {
 	whole = slices.Clone(list)
 	for range 8 {
 		whole = append(whole, filler)
@@ -16,7 +16,7 @@ func spare[T int32 | byte](list []T, filler T) (part, whole []T) {
 }
 
 // wantSame holds two lists against each other; nil and an empty list are the same.
-func wantSame[T int32 | byte](t *testing.T, what string, got, want []T) {
+func wantSame[T comparable](t *testing.T, what string, got, want []T) {
 	t.Helper()
 	if !slices.Equal(got, want) {
 		t.Errorf("%s: %v, want %v", what, short(got), short(want))
