@@ -178,14 +178,20 @@ func TestRefusedChangesNothing(t *testing.T) {
 	}
 }
 
+// fullTable is a script behind which there is a group to do again, and no room for another mark.
+func fullTable() []impl.Op {
+	script := []impl.Op{opInsert(0, "ab\nc"), opInsert(2, "x"), opUndo()}
+	for k := range impl.MaxMarks {
+		script = append(script, opMark(k, k%5, k%2))
+	}
+	return script
+}
+
 // Promise 12: refusals by what is full: the text, the table of marks, what is spent; with a group open and without.
 func TestRefusedWhereFull(t *testing.T) {
 	edits := []impl.Op{opMark(1, 500, 1), opMark(2, 20, 0), opSnap(2), opBegin(), opInsert(4, "put"), opDelete(0, 9), opInsert(0, "in"), opEnd(),
 		opInsert(9, "\n\n\n\n\n"), opUndo()}
-	marks := []impl.Op{opInsert(0, "ab\nc"), opInsert(2, "x"), opUndo()}
-	for k := range impl.MaxMarks {
-		marks = append(marks, opMark(k, k%5, k%2))
-	}
+	marks := fullTable()
 	for name, before := range map[string][]impl.Op{
 		"the text":                    {opInsert(0, ofBytes(impl.MaxText)), opDelete(1, 3), opUndo(), opMark(1, impl.MaxText, 1)},
 		"the table":                   marks,
